@@ -1,5 +1,5 @@
 // Package old: the two old forms, which say the same in the same order, but for changes.
-// It stands on pack and box. The tests of form1 and form2, which stand on it, are its tests, too.
+// It stands on pack, box and parts. The tests of form1 and form2, which stand on it, are its tests, too.
 package old
 
 import (
@@ -8,6 +8,7 @@ import (
 	"mailsack/api"
 	"mailsack/box"
 	"mailsack/pack"
+	"mailsack/parts"
 )
 
 // Form is one of the two.
@@ -73,7 +74,7 @@ func (f Form) Bytes(b api.Box) ([]byte, api.Errno) {
 	raw := f.appendChange(appendFixed([]byte(f.Mark), b.Valid, b.Next), b.High)
 	raw = appendFixed(raw, len(words))
 	for _, word := range words {
-		raw = append(raw, pack.Text(nil, word)...)
+		raw = parts.Text(raw, word)
 	}
 	raw = appendFixed(raw, len(b.Msgs))
 	for _, m := range b.Msgs {
@@ -84,23 +85,12 @@ func (f Form) Bytes(b api.Box) ([]byte, api.Errno) {
 
 // reader reads what a form is made of.
 type reader struct {
-	*pack.Reader
+	*parts.Reader
 	form Form
-	over bool // more of something than the form may have
-}
-
-// count reads how many of something there are: 0, if that is more than most.
-func (r *reader) count(most int) int {
-	n := r.Fixed()
-	if n > most {
-		r.over = true
-		return 0
-	}
-	return n
 }
 
 // change reads a High or a Mod: 1, where the form does not say it.
-func (r *reader) change() int {
+func (r reader) change() int {
 	if !r.form.Changes {
 		return 1
 	}
@@ -108,8 +98,8 @@ func (r *reader) change() int {
 }
 
 // text reads a message's text.
-func (r *reader) text() string {
-	raw := make([]byte, r.count(api.MaxText))
+func (r reader) text() string {
+	raw := make([]byte, r.FixedTo(api.MaxText))
 	for i := range raw {
 		raw[i] = byte(r.Byte())
 	}
@@ -117,7 +107,7 @@ func (r *reader) text() string {
 }
 
 // msg reads a message of the box id.
-func (r *reader) msg(id string) api.Msg {
+func (r reader) msg(id string) api.Msg {
 	var m api.Msg
 	m.UID = r.Fixed()
 	m.Mod = r.change()
@@ -130,27 +120,18 @@ func (r *reader) msg(id string) api.Msg {
 }
 
 // box reads the box id.
-func (r *reader) box(id string) api.Box {
+func (r reader) box(id string) api.Box {
 	b := api.Box{ID: id}
 	b.Valid = r.Fixed()
 	b.Next = r.Fixed()
 	b.High = r.change()
-	for range r.count(api.OldWords) {
+	for range r.FixedTo(api.OldWords) {
 		b.Words = append(b.Words, r.Text(api.MaxName))
 	}
-	for range r.count(api.MaxMsgs) {
+	for range r.FixedTo(api.MaxMsgs) {
 		b.Msgs = append(b.Msgs, r.msg(id))
 	}
 	return b
-}
-
-// first tells the first error that was met.
-func (r *reader) first() api.Errno {
-	// Behind an error of the bytes each count is 0, so one that was too great came ahead of it.
-	if r.over {
-		return api.ErrForm
-	}
-	return r.Err()
 }
 
 // Parse tells the box id that b is.
@@ -159,9 +140,9 @@ func (f Form) Parse(b []byte, id string) (api.Box, api.Errno) {
 	if !begins {
 		return api.Box{}, api.ErrForm
 	}
-	r := reader{Reader: pack.NewReader(rest), form: f}
+	r := reader{parts.NewReader(rest), f}
 	x := r.box(id)
-	if e := r.first(); e != api.OK {
+	if e := r.Err(); e != api.OK {
 		return api.Box{}, e
 	}
 	if r.Left() > 0 || box.May(x) != api.OK {
