@@ -18,6 +18,7 @@ import (
 	"mailsack/form3"
 	"mailsack/image"
 	"mailsack/row"
+	"mailsack/samples"
 )
 
 // written tells b in a form by that form's own package.
@@ -42,33 +43,12 @@ func read(version int, raw []byte, id string) (api.Box, api.Errno) {
 	return form3.Parse(raw, id)
 }
 
-// words is n words, each another one.
-func words(n int) []string {
-	var l []string
-	for i := range n {
-		l = append(l, "w"+strconv.Itoa(i))
-	}
-	return l
-}
-
-// plain is a box of which each form says all: 32 words, and two messages that have the first and the last of them.
-func plain() api.Box {
-	return api.Box{ID: "b1", Valid: 5, Next: 30, High: 1, Words: words(32), Msgs: []api.Msg{
-		{UID: 2, Mod: 1, Date: 7, ID: "e2-b1", Flags: 9, Keys: []int{0, 31}, Text: "hi"},
-		{UID: 29, Mod: 1, ID: "e29-b1"},
-	}}
-}
-
 // full is a box of which the forms leave as much as may be: two rows of each of 60 messages.
 // The keys of every second one are such that the first form leaves a name and a Mod, not flags and a name.
 func full() api.Box {
-	b := api.Box{ID: strings.Repeat("b", 12), Valid: 1000000, Next: 1000000, High: 1000000, Words: words(64)}
-	for i := range 60 {
-		m := api.Msg{UID: 999940 + i, Mod: 1000000, Date: 1000000, ID: strings.Repeat("i", 24), Flags: 31, Text: strings.Repeat("t", 300)}
-		for key := range 32 << (i % 2) {
-			m.Keys = append(m.Keys, key)
-		}
-		b.Msgs = append(b.Msgs, m)
+	b := samples.Full()
+	for i := range b.Msgs {
+		b.Msgs[i].Keys = b.Msgs[i].Keys[:32<<(i%2)]
 	}
 	return b
 }
@@ -128,7 +108,7 @@ func TestP11_1Parse(t *testing.T) {
 			t.Errorf("Parse of %x as %q: %v, error %d; not %v, %d", raw, id, got, e, want, we)
 		}
 	}
-	for _, b := range []api.Box{box.Empty("b1", 5), plain(), full()} {
+	for _, b := range []api.Box{box.Empty("b1", 5), samples.Plain(), full()} {
 		for version := 1; version <= 3; version++ {
 			raw, _ := written(version, b)
 			for _, id := range []string{b.ID, "b1", "b2", "", "a b", strings.Repeat("b", 13)} {
@@ -162,7 +142,7 @@ func TestP11_2MakeArg(t *testing.T) {
 		}
 	}
 	for _, version := range []int{0, 4, 5, -1, -2, -3, 1 << 32, 1<<32 + 1, 256 + 1, math.MinInt, math.MinInt + 1, math.MaxInt} {
-		refused("a box", version, plain())
+		refused("a box", version, samples.Plain())
 		refused("nothing", version, api.Box{})
 	}
 	for i, change := range []func(b *api.Box){
@@ -171,8 +151,8 @@ func TestP11_2MakeArg(t *testing.T) {
 		func(b *api.Box) { b.Valid = 0 },
 		func(b *api.Box) { b.High = 1000001 },
 		func(b *api.Box) { b.Next = 999999 },
-		func(b *api.Box) { b.Words = words(65) },
-		func(b *api.Box) { b.Words = words(300) },
+		func(b *api.Box) { b.Words = samples.Words(65) },
+		func(b *api.Box) { b.Words = samples.Words(300) },
 		func(b *api.Box) { b.Words[63] = b.Words[62] },
 		func(b *api.Box) { b.Msgs = append(b.Msgs, b.Msgs...) },
 		func(b *api.Box) { b.Msgs = make([]api.Msg, 61) },
@@ -191,7 +171,7 @@ func TestP11_2MakeArg(t *testing.T) {
 func TestP11_2Nothing(t *testing.T) {
 	for version := 1; version <= 3; version++ {
 		made(t, "an empty box", version, box.Empty("b1", 5))
-		made(t, "a plain box", version, plain())
+		made(t, "a plain box", version, samples.Plain())
 	}
 }
 
@@ -208,7 +188,7 @@ func TestP11_2Rest(t *testing.T) {
 		{"a Valid and a Next", func(b *api.Box) { b.Valid, b.Next = 1000000, 1000000 }, nil, nil},
 		{"a word less", func(b *api.Box) { b.Words, b.Msgs[0].Keys = b.Words[:31], nil }, nil, nil},
 		{"no words", func(b *api.Box) { b.Words, b.Msgs[0].Keys = nil, nil }, nil, nil},
-		{"a word more", func(b *api.Box) { b.Words = words(33) }, []api.Row{word("w32")}, []api.Row{word("w32")}},
+		{"a word more", func(b *api.Box) { b.Words = samples.Words(33) }, []api.Row{word("w32")}, []api.Row{word("w32")}},
 		{"two words more", func(b *api.Box) { b.Words = append(b.Words, "z", "a") }, []api.Row{word("z"), word("a")}, []api.Row{word("z"), word("a")}},
 		{"a Mod", func(b *api.Box) { b.High, b.Msgs[1].Mod = 3, 3 }, []api.Row{high(3), mod(29, 3)}, nil},
 		{"Mods", func(b *api.Box) { b.High, b.Msgs[0].Mod, b.Msgs[1].Mod = 9, 3, 2 }, []api.Row{high(9), mod(2, 3), mod(29, 2)}, nil},
@@ -222,7 +202,7 @@ func TestP11_2Rest(t *testing.T) {
 			b.Msgs[1] = api.Msg{UID: 3, Mod: 1, Date: 1000000, ID: "e3-b1", Flags: 31, Keys: []int{0, 1, 2, 30, 31}, Text: "\x00"}
 		}, nil, nil},
 	} {
-		b := plain()
+		b := samples.Plain()
 		x.change(&b)
 		made(t, x.what, 1, b, x.one...)
 		made(t, x.what, 2, b, x.two...)
@@ -233,7 +213,7 @@ func TestP11_2Rest(t *testing.T) {
 // TestP11_2Keys: of a message with a key from 32 on there is a row of its flags, all its keys and its Mod, and none of its Mod beside it.
 func TestP11_2Keys(t *testing.T) {
 	for key := range 64 {
-		b := api.Box{ID: "b1", Valid: 5, Next: 10, High: 4, Words: words(64)}
+		b := api.Box{ID: "b1", Valid: 5, Next: 10, High: 4, Words: samples.Words(64)}
 		for i, keys := range [][]int{{key}, nil, {key}, {31, key}, {0, key}, {key, 63}} {
 			if len(keys) > 1 && keys[0] >= keys[1] {
 				keys = keys[:1]
@@ -271,7 +251,7 @@ func TestP11_2Keys(t *testing.T) {
 
 // TestP11_2Order: High, words, and of each message flags, name, Mod: in the order of words and messages.
 func TestP11_2Order(t *testing.T) {
-	b := api.Box{ID: "b1", Valid: 5, Next: 30, High: 9, Words: words(34), Msgs: []api.Msg{
+	b := api.Box{ID: "b1", Valid: 5, Next: 30, High: 9, Words: samples.Words(34), Msgs: []api.Msg{
 		{UID: 2, Mod: 3, ID: "q", Flags: 9, Keys: []int{0, 32}, Text: "hi"},
 		{UID: 8, Mod: 1, ID: "e8-b1"},
 		{UID: 9, Mod: 9, ID: "e9-b1", Keys: []int{33}},
@@ -303,7 +283,7 @@ func TestP11_2Most(t *testing.T) {
 
 // TestP11_2Whole: any rows are done to what the form says, one by one; the first error is told alone.
 func TestP11_2Whole(t *testing.T) {
-	b := plain()
+	b := samples.Plain()
 	for version := 1; version <= 3; version++ {
 		raw, _ := written(version, b)
 		whole(t, "no rows", raw, "b1", nil, b, api.OK)
@@ -327,7 +307,7 @@ func TestP11_2Whole(t *testing.T) {
 func TestP11_2WholeOrder(t *testing.T) {
 	wrong := []api.Row{mod(7, 1)}
 	for version := 1; version <= 3; version++ {
-		raw, _ := written(version, plain())
+		raw, _ := written(version, samples.Plain())
 		whole(t, "wrong rows", raw, "b1", wrong, api.Box{}, api.ErrNone)
 		for _, l := range [][]api.Row{nil, {word("more")}, wrong} {
 			whole(t, "short", raw[:len(raw)-1], "b1", l, api.Box{}, api.ErrShort)
@@ -338,34 +318,8 @@ func TestP11_2WholeOrder(t *testing.T) {
 			whole(t, "no ID", raw, "", l, api.Box{}, api.ErrForm)
 		}
 	}
-	raw, _ := form3.Bytes(plain())
+	raw, _ := form3.Bytes(samples.Plain())
 	whole(t, "another ID", raw, "b2", wrong, api.Box{}, api.ErrForm)
-}
-
-// drawn draws a box that may be, of which each form says much, but now and then not all.
-func drawn(r *rand.Rand) api.Box {
-	b := api.Box{ID: "b" + strconv.Itoa(r.Intn(100)), Valid: 1 + r.Intn(1000000), High: 1 + r.Intn(4), Words: words(28 + r.Intn(37))}
-	if r.Intn(3) == 0 {
-		b.Words = words(r.Intn(40))
-	}
-	uid := 0
-	for range r.Intn(8) {
-		uid += 1 + r.Intn(50)
-		own := box.Own(b.ID, uid-r.Intn(8)/7) // now and then another UID's
-		m := api.Msg{UID: uid, Mod: 1 + r.Intn(b.High), Date: r.Intn(1000001), ID: own, Flags: r.Intn(32), Text: strings.Repeat("t", r.Intn(301))}
-		if r.Intn(4) == 0 {
-			m.ID = "n" + strconv.Itoa(r.Intn(1000))
-		}
-		often := 1 + r.Intn(60)
-		for key := range b.Words {
-			if r.Intn(often) == 0 {
-				m.Keys = append(m.Keys, key)
-			}
-		}
-		b.Msgs = append(b.Msgs, m)
-	}
-	b.Next = uid + 1 + r.Intn(1000)
-	return b
 }
 
 // between tells the rows from one box to another, by holding the two against each other, knowing nothing of forms.
@@ -398,7 +352,7 @@ func TestP11_3Whole(t *testing.T) {
 	r := rand.New(rand.NewSource(11))
 	var some [4]int
 	for range 3000 {
-		b := drawn(r)
+		b := samples.Drawn(r.Intn)
 		for version := 1; version <= 3; version++ {
 			raw, l, e := image.Make(version, b)
 			if e != api.OK || image.Version(raw) != version {
@@ -426,7 +380,7 @@ func TestP11_3Whole(t *testing.T) {
 func TestP11_3Changed(t *testing.T) {
 	r := rand.New(rand.NewSource(12))
 	for range 500 {
-		b := drawn(r)
+		b := samples.Drawn(r.Intn)
 		more, e := row.Add(b, 7, "", 8, []string{"w0", "w3"}, "more")
 		if e != api.OK {
 			t.Fatalf("Add to %v: error %d", b, e)
