@@ -1,4 +1,4 @@
-// Package parts: what rows and forms are made of: numbers and texts, one behind the other.
+// Package parts: what rows, forms and changes are made of: numbers and texts, one behind the other.
 // It stands on pack.
 package parts
 
